@@ -1,0 +1,1 @@
+"""Nets of pools along a row, judged for all rows and fillings."""
