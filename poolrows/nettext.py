@@ -54,22 +54,25 @@ def _read_rules(text, at, many):
     start = _behind_spaces(text, at)
     while start < len(text):
         rule, end = _read_rule(text, start, many)
+        # The rule's own character stands ahead of the one behind it, so it is told first.
         if len(rules) == MOST_RULES or not changes_something(rule) or rules and rule <= rules[-1]:
             raise InvalidText(start)
+        if end < len(text) and text[end] != " ":
+            raise InvalidText(end)
         rules.append(rule)
         start = _behind_spaces(text, end)
     return tuple(rules)
 
 
 def _read_rule(text, at, many):
-    """Return the places that stand there, and where they end: ahead of a space or with the text."""
+    """Return the places that stand there, and where they end."""
     place, at = _read_place(text, at, many)
     places = [place]
-    while text[at:at + 1] == "|" and len(places) < MOST_RULE_PLACES:
+    while text[at:at + 1] == "|":
+        if len(places) == MOST_RULE_PLACES:
+            raise InvalidText(at)
         place, at = _read_place(text, at + 1, many)
         places.append(place)
-    if at < len(text) and text[at] != " ":
-        raise InvalidText(at)
     return tuple(places), at
 
 

@@ -39,8 +39,13 @@ WRONG_TEXTS = [
     # Rules whose takes and puts are all the same.
     ("1: 1>1", 3), ("1:1>1", 2), ("1:   1>1 ", 5), ("1: 0>0|1>1", 3), ("1: 0>0|1>1|2>2", 3), ("1: 1>0 2>2", 7),
     ("1: 1>0  2>2", 8), ("4: 1234>1234", 3), ("1: 1>1 x", 3), ("1: 1>1 1>1", 3), ("1: 2>2 1>0", 3),
-    # Rules that are one, but for what stands behind them.
-    ("1: 1>1x", 6), ("1: 1>11", 6), ("1: 1>0 1>0x", 10), ("1: 2>0 1>0:", 10), ("1: 1>1|1>1x", 10),
+    # Whole rules that may not stand, and behind them a character that can't, either: the rule's own is the first.
+    ("1: 1>1x", 3), ("1: 1>11", 3), ("1: 1>1>", 3), ("1: 1>1:1>0", 3), ("1: 1>0 1>0x", 7), ("1: 2>0 1>0:", 7),
+    ("1: 2>0  1>0\t", 8), ("1: 1>1|1>1x", 3), ("1: 1>1|1>1|2>2x", 3), ("1: 0>1 0>1|0>0 0>1|0>0,", 15),
+    ("2: 10>100", 3), ("4: 1234>1234:", 3),
+    # What is no whole rule, for "|" goes on with it: its own first character that can't stand.
+    ("1: 1>1|x", 7), ("1: 2>0 1>0||", 11), ("1: 1>1|1>1|1>1|x", 14), ("1: 2>0 1>0|0>0|0>0|", 18),
+    ("1: 2>0 1>x", 9), ("1: 1>1|1:", 8),
     # Rules that are not greater than the one before.
     ("1: 1>0 1>0", 7), ("1: 2>0 1>0", 7), ("1: 2>0   1>0", 9), ("1: 1>2|0>0 1>2", 11), ("1: 1>3 1>2|0>0", 7),
     ("1: 1>0 2>0 3>0 2>0 x", 15), ("2: 10>01 01>10", 9), ("1: 2>0 1>0|", 11), ("1: 2>0 1", 8),
@@ -98,7 +103,12 @@ class ReadTest(unittest.TestCase):
         for ninth in (" 0>9", " 0>9 x", " 0>9|1>0 ", " 0>1", " 1>1", " 0>9 1>0"):
             self.assertEqual(raised(read_net, EIGHT + ninth), invalid_text(end + 1), ninth)
         self.assertEqual(raised(read_net, EIGHT + "   0>9"), invalid_text(end + 3))
-        for ninth, place in ((" x", 1), (" 0x", 2), (" 0>9x", 4), (" 0>9|1>0|1>0|", 12), (" 0", 2), (" 0>", 3)):
+        for ninth in (" 0>9x", " 0>99", " 1>1:", " 0>1>", " 0>9|1>0|1>0x"):
+            self.assertEqual(raised(read_net, EIGHT + ninth), invalid_text(end + 1), ninth)
+        wrong = [
+            (" x", 1), (" 0x", 2), (" 0>9|", 5), (" 0>9|x", 5), (" 0>9|1>0|1>0|", 12), (" 0", 2), (" 0>", 3),
+        ]
+        for ninth, place in wrong:
             self.assertEqual(raised(read_net, EIGHT + ninth), invalid_text(end + place), ninth)
 
     def test_each_text_that_is_cut_off_ends_too_soon_or_names_a_net(self):
