@@ -1,4 +1,4 @@
-"""What values are: numbers, rules and nets."""
+"""What values are: integers, numbers within limits, rules and nets."""
 
 from poolrows.errors import BadNet
 
@@ -8,15 +8,30 @@ MOST_RULE_PLACES = 3
 MOST_MOVED = 9
 
 
+def is_integer(value):
+    """Return whether the value is an integer."""
+    # To Python, True and False are integers, too.
+    return isinstance(value, int) and not isinstance(value, bool)
+
+
 def is_number(value, low, high):
     """Return whether the value is an integer from low to high."""
-    # To Python, True and False are integers, too.
-    return isinstance(value, int) and not isinstance(value, bool) and low <= value <= high
+    return is_integer(value) and low <= value <= high
+
+
+def are_integers(value, many):
+    """Return whether the value is a tuple of so many integers."""
+    return isinstance(value, tuple) and len(value) == many and all([is_integer(item) for item in value])
+
+
+def are_counts(value, many):
+    """Return whether the value is a tuple of so many integers not below 0."""
+    return are_integers(value, many) and all([number >= 0 for number in value])
 
 
 def are_numbers(value, many, high):
     """Return whether the value is a tuple of so many integers from 0 to high."""
-    return isinstance(value, tuple) and len(value) == many and all([is_number(item, 0, high) for item in value])
+    return are_counts(value, many) and all([number <= high for number in value])
 
 
 def is_pair(value):

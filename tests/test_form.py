@@ -7,7 +7,7 @@ import unittest
 
 PACKAGE = os.path.join(os.path.dirname(os.path.dirname(os.path.abspath(__file__))), "poolrows")
 
-LIBRARY = {"itertools": {"combinations"}}
+LIBRARY = {"itertools": {"accumulate", "combinations"}, "math": {"gcd", "lcm"}}
 BUILTINS = {
     "len", "range", "enumerate", "zip", "min", "max", "sum", "abs", "sorted", "reversed", "int", "str", "bool", "list",
     "tuple", "dict", "set", "isinstance", "any", "all", "divmod", "super", "ValueError",
@@ -84,6 +84,24 @@ class FormTest(unittest.TestCase):
         for name, part in parts((ast.FunctionDef, ast.arg)):
             own = part.name if isinstance(part, ast.FunctionDef) else part.arg
             self.assertNotIn(own, dir(builtins), (name, part.lineno))
+
+    def test_functions_of_the_library(self):
+        """L2"""
+        words = {word for known in LIBRARY.values() for word in known}
+        called = {(name, part.func.lineno, part.func.col_offset) for name, part in parts(ast.Call)}
+        for name, part in parts(ast.Name):
+            if part.id in words and (name, part.lineno, part.col_offset) not in called:
+                self.fail((name, part.lineno, part.id))
+
+    def test_modules_do_not_import_each_other(self):
+        """L16"""
+        imports = {}
+        for name, part in parts(ast.ImportFrom):
+            imports.setdefault("poolrows." + name[:-3], set()).add(part.module)
+        while imports:
+            free = [name for name in imports if not any(other in imports for other in imports[name])]
+            self.assertNotEqual(free, [], imports)
+            imports = {name: others for name, others in imports.items() if name not in free}
 
     def test_methods(self):
         """L25"""

@@ -3,9 +3,16 @@
 import itertools
 import unittest
 
+from poolrows.climbs import bounded, ends, falling, holding, shows_falling, shows_holding
+from poolrows.knots import knot, rising, shows_knot, shows_rising
+from poolrows.lengths import (
+    run_degree, run_ladder, run_levels, shows_run_ladder, shows_run_levels, shows_token_ladder, shows_token_levels,
+    token_degree, token_ladder, token_levels,
+)
 from poolrows.nets import joined, mirrored, renamed, turned
 from poolrows.nettext import read_net, write_net
 from poolrows.rows import after, all_come, deeds, done, goes_on, longest
+from poolrows.sums import can_fill, kept_at_places, kept_sums
 from tests.helpers import BAD_ORDER, WRONG, bad_net, raised, too_many, unchanged
 
 # Each function that takes a net, with wrong values for all further arguments: the net's error comes first.
@@ -13,6 +20,13 @@ TAKERS = [
     (renamed, [None]), (mirrored, []), (turned, []), (joined, [None]), (write_net, []),
     (deeds, [None]), (done, [None, None]), (after, [None, None]),
     (all_come, [None]), (goes_on, [None]), (longest, [None]),
+    (ends, []), (bounded, []), (falling, []), (holding, []), (shows_falling, [0]), (shows_holding, [0]),
+    (shows_falling, [None]), (shows_holding, [None]),
+    (knot, []), (rising, []), (shows_knot, [0]), (shows_rising, [0]), (shows_knot, [None]), (shows_rising, [None]),
+    (kept_sums, []), (kept_at_places, []), (can_fill, [None]),
+    (run_degree, []), (token_degree, []), (run_levels, []), (token_levels, []), (run_ladder, []), (token_ladder, []),
+    (shows_run_levels, [None]), (shows_token_levels, [None]), (shows_run_ladder, [None]), (shows_token_ladder, [None]),
+    (shows_run_levels, [0]), (shows_token_levels, [0]), (shows_run_ladder, [()]), (shows_token_ladder, [()]),
 ]
 
 EAT = (((1,), (0,)),)
