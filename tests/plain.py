@@ -1,5 +1,7 @@
 """Judges written straight from the document, to hold the program's answers against."""
 
+import itertools
+
 
 def is_number(value, low=None):
     """Return whether the value is an integer, and not below low."""
@@ -166,3 +168,25 @@ def is_ladder(net, value):
 def lots(ladder):
     """Return how many lots a ladder has."""
     return (len(ladder) + 1) // 2
+
+
+def left_by_small_weights(net, judge, most):
+    """Return for each pair (rules, pools) that levels with weights up to most may leave the least number of slopes."""
+    many, rules = net
+    weights = list(itertools.product(range(-most, most + 1), repeat=many))
+    falls = {own: [[fall(own, place) for place in rule] for rule in rules] for own in weights}
+    start = (frozenset(range(len(rules))), frozenset(range(many)))
+    least = {start: 0}
+    waiting = [start]
+    while waiting:
+        left_rules, left_pools = waiting.pop()
+        for own, word in itertools.product(weights, ("early", "even", "late")):
+            sums = {at: judge(word, falls[own][at]) for at in left_rules}
+            if all(own[pool] >= 0 for pool in left_pools) and all(min(numbers) >= 0 for numbers in sums.values()):
+                left = (frozenset(at for at in left_rules if max(sums[at]) == 0),
+                        frozenset(pool for pool in left_pools if own[pool] == 0))
+                many_slopes = least[left_rules, left_pools] + (word != "even")
+                if many_slopes < least.get(left, 99):
+                    least[left] = many_slopes
+                    waiting.append(left)
+    return least

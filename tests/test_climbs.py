@@ -131,6 +131,15 @@ class EndsTest(unittest.TestCase):
             self.assertEqual((ends(net), bounded(net)), on_small_rows(net, 3, 2), write_net(net))
 
 
+    def test_all_levels_with_small_weights(self):
+        """On these nets small weights are enough."""
+        for net in drawn_nets(3, 60, pools=2, rules=3) + drawn_movers(5, 60, pools=2, rules=3):
+            if max([number for rule in net[1] for place in rule for moved in place for number in moved], default=0) < 3:
+                left = list(plain.left_by_small_weights(net, plain.strong, 4))
+                self.assertEqual(ends(net), any(not rules for rules, _ in left), write_net(net))
+                self.assertEqual(bounded(net), any(not pools for _, pools in left), write_net(net))
+
+
 class LevelsTest(unittest.TestCase):
     def test_what_is_found_settles(self):
         for net in drawn_nets(1, 150) + drawn_movers(1, 150) + [read_net(text) for text, _, _ in NETS]:

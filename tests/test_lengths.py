@@ -234,6 +234,16 @@ class DegreesTest(unittest.TestCase):
                 self.assertIs(shows(net, finds(net)), True, write_net(net))
                 self.assertIs(shows(net, None), finds(net) is None, write_net(net))
 
+    def test_all_levels_with_small_weights(self):
+        """On these nets small weights are enough: no words in any order settle with fewer slopes."""
+        for net in drawn_nets(14, 60, pools=2, rules=3) + drawn_movers(14, 60, pools=2, rules=3):
+            if max([number for rule in net[1] for place in rule for moved in place for number in moved], default=0) < 3:
+                least = plain.left_by_small_weights(net, plain.mild, 4)
+                runs = [many + 1 for (rules, _), many in least.items() if not rules]
+                tokens = [many + 1 for (_, pools), many in least.items() if not pools]
+                self.assertEqual(run_degree(net), min(runs, default=None) if net[1] else 0, write_net(net))
+                self.assertEqual(token_degree(net), min(tokens, default=None), write_net(net))
+
     def test_nets_without_rules(self):
         for many in (1, 2, 3, 4):
             net = (many, ())
